@@ -1,0 +1,1 @@
+"""Longlife: worlds of cells over long times."""
