@@ -32,6 +32,31 @@ def cells_of(floor, first):
     return cells
 
 
+def home_floor(floor):
+    """Return the floor of the home form, if the pattern is not empty, and its least row and column.
+
+    The least row is that of the pattern, and the least column is counted from the beginning of strip 0.
+    """
+    full = (1 << WIDTH) - 1
+    top = min([row for row, _ in floor])
+    first = min([at for _, at in floor])
+    edge = 0
+    for (_, at), strip in floor.items():
+        if at == first:
+            edge |= strip
+    left = first * WIDTH + (edge & -edge).bit_length() - 1
+    homely = {}
+    for (row, at), strip in floor.items():
+        place, shift = divmod(at * WIDTH - left, WIDTH)
+        here = (strip & (full >> shift)) << shift
+        beyond = strip >> (WIDTH - shift)
+        if here:
+            homely[(row - top, place)] = homely.get((row - top, place), 0) | here
+        if beyond:
+            homely[(row - top, place + 1)] = homely.get((row - top, place + 1), 0) | beyond
+    return homely, top, left
+
+
 def next_floor(floor, rule):
     """Return the floor of the next generation."""
     sums = _row_sums(floor)
@@ -41,17 +66,14 @@ def next_floor(floor, rule):
         above = sums.get((row - 1, at), none)
         here = sums.get((row, at), none)
         below = sums.get((row + 1, at), none)
-        strip = _next_strip(floor.get((row, at), 0), _totals(above, here, below), rule)
+        strip = next_strip(floor.get((row, at), 0), totals_of(above, here, below), rule)
         if strip:
             after[(row, at)] = strip
     return after
 
 
 def _row_sums(floor):
-    """Return how many of three cells are alive: each cell and those to its left and right.
-
-    The sums of a strip are two integers: the bits that count 1 and the bits that count 2.
-    """
+    """Return the sums of each strip: how many are alive of each cell and those to its left and right."""
     last = WIDTH - 1
     full = (1 << WIDTH) - 1
     sums = {}
@@ -59,9 +81,14 @@ def _row_sums(floor):
         alive = floor.get((row, at), 0)
         left = ((alive << 1) & full) | (floor.get((row, at - 1), 0) >> last)
         right = (alive >> 1) | ((floor.get((row, at + 1), 0) & 1) << last)
-        odd = left ^ right
-        sums[(row, at)] = (odd ^ alive, (left & right) | (odd & alive))
+        sums[(row, at)] = sums_of(left, alive, right)
     return sums
+
+
+def sums_of(left, alive, right):
+    """Return how many of three cells are alive, as the bits that count 1 and the bits that count 2."""
+    odd = left ^ right
+    return odd ^ alive, (left & right) | (odd & alive)
 
 
 def _with_strips_beside(floor):
@@ -87,7 +114,7 @@ def _with_rows_beside(sums):
     return list(keys)
 
 
-def _totals(above, here, below):
+def totals_of(above, here, below):
     """Return how many of the nine cells at and around each cell are alive, from the sums of three rows.
 
     The totals are four integers: the bits that count 1, 2, 4 and 8.
@@ -105,7 +132,7 @@ def _totals(above, here, below):
     return odd ^ here_ones, first ^ second, fours, first_four & second_four
 
 
-def _next_strip(alive, totals, rule):
+def next_strip(alive, totals, rule):
     """Return a strip in the next generation, from its living cells and its totals."""
     ones, twos, fours, eights = totals
     # Where none of the nine cells is alive, none is born, so the opposite of a bit is needed here only.

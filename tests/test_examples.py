@@ -20,6 +20,20 @@ EXAMPLES = {
 >>> write_text([(5, 5), (5, 6), (7, 4), (8, 4)])
 '.2O2/O/O!'
 """,
+    "squares": """
+>>> from longlife.rules import read_rule
+>>> from longlife.squares import Store
+>>> s = Store(read_rule("B2/S"))
+>>> q = s.built([(3, 3), (3, 4)], 3)
+>>> (s.cells(s.middle(q)), s.cells(s.future(q, 0)))
+([(1, 1), (1, 2)], [(0, 1), (0, 2), (2, 1), (2, 2)])
+""",
+    "fates": """
+>>> from longlife.fates import fate
+>>> from longlife.rules import read_rule
+>>> (fate([(0, 0)], read_rule("B2/S"), 10), fate([(4, 4)], read_rule("B/S0"), 10), fate([(0, 0)], read_rule("B2/S"), 1))
+((1, 1, 0, 0), (0, 1, 0, 0), None)
+""",
 }
 
 

@@ -18,6 +18,11 @@ FUNCTIONS = {
         "read_text": ["string"],
         "write_text": ["cells"],
     },
+    "longlife.fates": {
+        "fate": ["cells", "rule", "bound"],
+        "holds": ["cells", "rule", "told"],
+        "at_generation": ["cells", "rule", "told", "generation"],
+    },
 }
 CLASSES = {
     "longlife.errors": {
@@ -29,6 +34,35 @@ CLASSES = {
     "longlife.rules": {
         "Rule": {"__init__": ["self", "births", "survival"], "lives": ["self", "alive", "count"],
                  "__eq__": ["self", "other"]},
+    },
+    "longlife.squares": {
+        "Store": {
+            "__init__": ["self", "rule"],
+            "joined": ["self", "a", "b", "c", "d"],
+            "level": ["self", "square"],
+            "parts": ["self", "square"],
+            "count": ["self", "square"],
+            "empty": ["self", "level"],
+            "built": ["self", "cells", "level"],
+            "cells": ["self", "square"],
+            "middle": ["self", "square"],
+            "future": ["self", "square", "j"],
+            "collected": ["self", "squares"],
+        },
+    },
+    "longlife.worlds": {
+        "World": {
+            "__init__": ["self", "rule"],
+            "put": ["self", "row", "column", "alive"],
+            "paste": ["self", "cells", "row", "column", "mode"],
+            "leap": ["self", "generations"],
+            "tidy": ["self"],
+            "alive": ["self", "row", "column"],
+            "count": ["self"],
+            "cells": ["self"],
+            "bounds": ["self"],
+            "window": ["self", "row", "column", "height", "width"],
+        },
     },
 }
 
