@@ -12,13 +12,18 @@ TOP = 5
 SIDE = 32
 
 
+def place_of(row, column):
+    """Return the place on the floor of the block in which a cell is, and the block with that cell alone."""
+    at = (row & (SIDE - 1)) * SIDE + (column & (SIDE - 1))
+    return (row // SIDE, column // SIDE), 1 << at
+
+
 def blocks_of(cells):
     """Return the blocks of the level TOP in which there are cells, by their places on the floor."""
     blocks = {}
     for row, column in cells:
-        place = (row // SIDE, column // SIDE)
-        at = (row & (SIDE - 1)) * SIDE + (column & (SIDE - 1))
-        blocks[place] = blocks.get(place, 0) | (1 << at)
+        place, block = place_of(row, column)
+        blocks[place] = blocks.get(place, 0) | block
     return blocks
 
 
@@ -72,18 +77,18 @@ class Blocks:
 
     def quarters(self, level, block):
         """Return the four parts of a block of this level."""
-        half = 1 << (level - 1)
+        half = (1 << level) >> 1
         places = ((0, 0), (0, half), (half, 0), (half, half))
         return [self.cut(level - 1, block, row, column) for row, column in places]
 
     def put_together(self, level, a, b, c, d):
         """Return the block of this level with these parts."""
-        half = 1 << (level - 1)
+        half = (1 << level) >> 1
         return a | (b << half) | (c << (half * SIDE)) | (d << (half * SIDE + half))
 
     def centre(self, level, block):
         """Return the middle of a block of this level."""
-        quarter = 1 << (level - 2)
+        quarter = (1 << level) >> 2
         return self.cut(level - 1, block, quarter, quarter)
 
     def centre_after(self, level, block, generations):

@@ -3,7 +3,7 @@
 from longlife.patterns import grown, moved
 from longlife.strips import floor_of, home_floor, next_floor
 
-# What the marks of patterns are made with: any two numbers do, the better the fewer marks are equal by chance.
+# The marks of patterns are made with these two numbers; the larger they are, the rarer is a mark of two patterns.
 FACTOR = 298173405613920847650129384756192837465
 PRIME = (1 << 127) - 1
 
@@ -28,8 +28,8 @@ def fate(cells, rule, bound):
 def _marked(floor):
     """Return the mark of a floor, and its least row and column.
 
-    Floors with the same home form have the same mark. Large patterns need too much room to be kept
-    for a thousand generations; their marks do not. Others may have that mark, too, by rare chance.
+    Floors with the same home form have the same mark; others may have it, too, by rare chance. Large
+    patterns of a thousand generations would need too much room to be kept; their marks do not.
     """
     if not floor:
         return 0, 0, 0

@@ -23,7 +23,7 @@ class Store:
         self._counts = []
         self._bits = []
         self._parts = []
-        self._small = [{} for _ in range(TOP + 1)]
+        self._small = {}
         self._large = {}
         self._empty = []
         self._futures = {}
@@ -46,10 +46,10 @@ class Store:
 
     def small(self, level, block):
         """Return the square with the cells of a block of this level, which is at most TOP."""
-        numbers = self._small[level]
-        if block not in numbers:
-            numbers[block] = self._new_square(level, block_count(block), block, ())
-        return numbers[block]
+        kept = (level, block)
+        if kept not in self._small:
+            self._small[kept] = self._new_square(level, block_count(block), block, ())
+        return self._small[kept]
 
     def _new_square(self, level, count, block, parts):
         self._levels.append(level)
@@ -88,10 +88,8 @@ class Store:
     def built(self, cells, level):
         """Return the square of this level with these cells."""
         blocks = blocks_of(cells)
-        if level <= TOP:
-            return self.small(level, self._blocks.cut(level, blocks.get((0, 0), 0), 0, 0))
-        layout = self.at_level({place: self.small(TOP, blocks[place]) for place in blocks}, TOP, level)
-        return layout.get((0, 0), self.empty(level))
+        layout = {place: self.small(TOP, block) for place, block in blocks.items()}
+        return self.at_level(layout, TOP, level).get((0, 0), self.empty(level))
 
     def cells(self, square):
         """Return the pattern of a square whose first row and column are 0."""

@@ -1,6 +1,6 @@
 """Worlds: patterns that live for very many generations at once."""
 
-from longlife.blocks import SIDE, TOP, block_cells, block_changed, block_count, blocks_of
+from longlife.blocks import SIDE, TOP, block_cells, block_changed, block_count, blocks_of, place_of
 from longlife.patterns import ALIVE, DEAD
 from longlife.squares import Store
 
@@ -36,10 +36,10 @@ class World:
         store = self._store
         level = TOP
         layout = {place: store.small(TOP, block) for place, block in self._living.items()}
-        # The short leaps first: what the pattern throws far away is more than what it is now.
+        # The short parts of the leap come first, as long as the pattern has not spread far.
         for j in range(generations.bit_length()):
             if (generations >> j) & 1:
-                # At this level, the future of a square is that of one block, or half of the time twice.
+                # At this level, what surrounds a square is a block, or its future is made of two halves in time.
                 wanted = max(j + 1, TOP - 1)
                 layout = store.aged(store.at_level(layout, level, wanted), wanted, j)
                 level = wanted
@@ -53,7 +53,8 @@ class World:
 
     def alive(self, row, column):
         """Return whether a cell is alive."""
-        return len(self._cells_within(row, column, 1, 1)) == 1
+        place, block = place_of(row, column)
+        return (self._living.get(place, 0) & block) != 0
 
     def count(self):
         """Return the number of living cells."""
@@ -74,18 +75,13 @@ class World:
 
     def window(self, row, column, height, width):
         """Return the picture of the part of the floor whose first cell is in this row and column."""
-        signs = [[DEAD] * width for _ in range(height)]
-        for down, beside in self._cells_within(row, column, height, width):
-            signs[down - row][beside - column] = ALIVE
-        return ["".join(line) for line in signs]
-
-    def _cells_within(self, row, column, height, width):
-        """Return the living cells of this number of rows and columns from a cell on."""
         places = [(down, beside) for down in range(row // SIDE, (row + height - 1) // SIDE + 1)
                   for beside in range(column // SIDE, (column + width - 1) // SIDE + 1)]
-        living = self._cells_of_blocks([place for place in places if place in self._living])
-        return [(down, beside) for down, beside in living
-                if row <= down < row + height and column <= beside < column + width]
+        signs = [[DEAD] * width for _ in range(height)]
+        for down, beside in self._cells_of_blocks([place for place in places if place in self._living]):
+            if row <= down < row + height and column <= beside < column + width:
+                signs[down - row][beside - column] = ALIVE
+        return ["".join(line) for line in signs]
 
     def _cells_of_blocks(self, places):
         """Return the living cells of the blocks at some places."""

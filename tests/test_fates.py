@@ -269,6 +269,13 @@ class AtGenerationTest(unittest.TestCase):
             self.assertEqual(at_generation(moved(BLOCK, FAR - 1, -FAR), LIFE, (0, 1, 0, 0), generation),
                              moved(BLOCK, FAR - 1, -FAR))
 
+    def test_somewhat_beyond_the_limits(self):
+        self.assertEqual(fate(GLIDER, LIFE, 1200), (0, 4, 1, 1))
+        self.assertIsNone(fate([(0, 0)], read_rule("B1/S"), 0))
+        self.assertIs(holds(GLIDER, LIFE, (1202, 1204, 301, 301)), True)
+        self.assertIs(holds(GLIDER, LIFE, (1202, 1204, 301, 300)), False)
+        self.assertEqual(at_generation(GLIDER, LIFE, (1202, 1204, 301, 301), 2 ** 43), moved(GLIDER, 2 ** 41, 2 ** 41))
+
     def test_starts_that_are_larger_than_needed(self):
         told = (1000, 1000, 250, 250)
         for generation in (0, 1, 999, 1000, 1001, 1999, 2000, 2001, 5000):

@@ -199,6 +199,10 @@ class LongLeapTest(unittest.TestCase):
         for generations in (MOST, MOST - 1, MOST - 2, 2 ** 39 + 2 ** 20 + 5, 10 ** 9, 987654321987, 2 ** 32, 12345):
             self.check_glider(generations)
 
+    def test_somewhat_beyond_the_limits(self):
+        for generations in (MOST + 5, 2 ** 45 + 3):
+            self.check_glider(generations)
+
     def test_still_cells_at_the_bounds(self):
         corners = [(-FAR, -FAR), (-FAR, FAR), (0, 0), (FAR, -FAR), (FAR, FAR)]
         for generations in (1, 2 ** 20, MOST - 1, MOST):

@@ -168,6 +168,23 @@ class SquaresTest(unittest.TestCase):
         self.assertEqual(store.cells(square), cells)
         self.assertEqual(store.count(square), len(cells))
 
+    def test_somewhat_beyond_the_limits(self):
+        store = Store(LIFE)
+        square = store.built([(0, 2 ** 62), (2 ** 63, 0)], 64)
+        self.assertEqual((store.level(square), store.count(square)), (64, 2))
+        self.assertEqual(store.cells(square), [(0, 2 ** 62), (2 ** 63, 0)])
+        self.assertEqual(store.level(store.empty(64)), 64)
+        self.assertEqual(store.future(store.empty(64), 62), store.empty(63))
+        # No error comes, and nothing that was kept before is another one afterwards.
+        for level in range(8):
+            square = store.built([(0, 0), (1, 1), (5, 5), (-1, 0), (99, 200)], level)
+            store.middle(square)
+            store.parts(square)
+            store.future(square, max(0, level - 1))
+        self.assertEqual([store.level(store.empty(level)) for level in range(9)], list(range(9)))
+        self.assertEqual((store.cells(0), store.cells(1)), ([], [(0, 0)]))
+        self.assertEqual(store.cells(store.built([(0, 0), (4, 0), (0, 5)], 2)), [(0, 0)])
+
     def test_two_stores_know_nothing_of_each_other(self):
         one, other = Store(LIFE), Store(read_rule("B2/S"))
         first = one.built(GLIDER, 6)

@@ -237,6 +237,14 @@ class WindowTest(WorldCase):
             self.assertEqual(world.window(row + 3, column, 1, 3), ["..."])
             self.assertEqual(world.window(row, column - 2, 2, 4), ["...O", "...."])
 
+    def test_somewhat_beyond_the_limits(self):
+        cells = [(-2 ** 52, 2 ** 51 + 1), (0, 0), (0, 230), (2 ** 53, -2 ** 60)]
+        world = world_of(cells)
+        self.check_shows(world, cells)
+        self.assertEqual(world.window(0, 0, 1, 250), plain_window(cells, 0, 0, 1, 250))
+        self.assertEqual(world.window(-230, 20, 240, 230), plain_window(cells, -230, 20, 240, 230))
+        self.assertEqual((world.window(0, 0, 0, 5), world.window(0, 0, 2, 0)), ([], ["", ""]))
+
     def test_a_large_part_of_the_floor_between(self):
         world = world_of([(-FAR, -FAR), (0, 0), (FAR, FAR)])
         self.assertEqual(world.window(-100, -100, 200, 200)[100], "." * 100 + "O" + "." * 99)
