@@ -69,10 +69,10 @@ class Blocks:
 
     def __init__(self, rule):
         self._rule = rule
-        self._full = [_full_block(level) for level in range(TOP + 1)]
+        self._full = [_full_block(level) for level in range(TOP)]
 
     def cut(self, level, block, row, column):
-        """Return the block of this level whose first cell is the cell of a block in this row and column."""
+        """Return the block of a level below TOP whose first cell is the cell of a block in this row and column."""
         return (block >> (row * SIDE + column)) & self._full[level]
 
     def quarters(self, level, block):

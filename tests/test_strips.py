@@ -14,6 +14,9 @@ class StripsTest(unittest.TestCase):
         least_column = min(column for _, column in cells)
         self.assertEqual(home_floor(floor), (floor_of(home(cells), 0), least_row, least_column - first))
         self.assertEqual(floor, kept)
+        # The order of the strips in the dict does not count.
+        backwards = {key: floor[key] for key in sorted(floor)[::-1]}
+        self.assertEqual(home_floor(backwards), home_floor(floor))
 
     def test_floors_and_cells(self):
         for first in (-WIDTH - 3, -1, 0, 5, WIDTH, FAR):
