@@ -1,6 +1,10 @@
 """Patterns for the tests, and the plain rule of point 3, counted cell by cell."""
 
+import functools
+import itertools
 import random
+
+from longlife.rules import Rule
 
 FAR = 2 ** 50
 GLIDER = [(0, 1), (1, 2), (2, 0), (2, 1), (2, 2)]
@@ -38,3 +42,49 @@ def plainly_grown(cells, rule, generations):
 def soup(seed, height, width, percent):
     chance = random.Random(seed)
     return [(row, column) for row in range(height) for column in range(width) if chance.randrange(100) < percent]
+
+
+@functools.lru_cache(maxsize=None)
+def plainly_fails(births, survival, wanted, nine):
+    """Whether the middle one of nine cells is never as wanted: all states are tried of those that are None."""
+    for states in itertools.product(*[(False, True) if state is None else (state,) for state in nine]):
+        count = sum(states) - states[4]
+        later = count in (survival if states[4] else births)
+        if later == (states[4] if wanted is None else wanted):
+            return False
+    return True
+
+
+def plainly_holds(fails, case, denial):
+    """Whether a denial holds in a case, by the words of point 19."""
+    cell = (denial[1], denial[2])
+    if denial[0] == "fails":
+        return fails(case, *cell)
+    if cell in case:
+        return plainly_holds(fails, case, denial[4] if case[cell] else denial[3])
+    return (plainly_holds(fails, {**case, cell: False}, denial[3])
+            and plainly_holds(fails, {**case, cell: True}, denial[4]))
+
+
+def tuples_within(denial):
+    """How many tuples of a denial stand within one another at most."""
+    return 1 if denial[0] == "fails" else 1 + max(tuples_within(denial[3]), tuples_within(denial[4]))
+
+
+def tuples_of(denial):
+    """How many tuples a denial has."""
+    return 1 if denial[0] == "fails" else 1 + tuples_of(denial[3]) + tuples_of(denial[4])
+
+
+def random_picture(chance, height, width, signs):
+    return ["".join(chance.choice(signs) for _ in range(width)) for _ in range(height)]
+
+
+def picture_cells(strings):
+    return [(row, column) for row, signs in enumerate(strings) for column, sign in enumerate(signs) if sign == "O"]
+
+
+def random_rule(chance):
+    percents = [chance.choice((10, 30, 50, 70)) for _ in range(2)]
+    return Rule([number for number in range(1, 9) if chance.randrange(100) < percents[0]],
+                [number for number in range(9) if chance.randrange(100) < percents[1]])

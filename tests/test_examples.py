@@ -1,7 +1,10 @@
-"""The examples of the document, word for word."""
+"""The examples of the document, word for word, and those of README.md."""
 
 import doctest
+import pathlib
 import unittest
+
+README = pathlib.Path(__file__).resolve().parent.parent / "README.md"
 
 EXAMPLES = {
     "rules": """
@@ -34,6 +37,29 @@ EXAMPLES = {
 >>> (fate([(0, 0)], read_rule("B2/S"), 10), fate([(4, 4)], read_rule("B/S0"), 10), fate([(0, 0)], read_rule("B2/S"), 1))
 ((1, 1, 0, 0), (0, 1, 0, 0), None)
 """,
+    "pasts": """
+>>> from longlife.pasts import denies, search
+>>> from longlife.rules import read_rule
+>>> (search(["O"], read_rule("B1/S"))[0], denies(["O"], read_rule("B/S"), ("fails", 0, 0)))
+('past', True)
+""",
+    "islands": """
+>>> from longlife.islands import census, islands
+>>> (islands([(0, 0), (1, 2), (0, 5)]), census([(0, 0), (0, 9), (5, 5), (6, 5)]))
+([[(0, 0), (1, 2)], [(0, 5)]], [('2O!', 1), ('O!', 2)])
+""",
+    "stills": """
+>>> from longlife.rules import read_rule
+>>> from longlife.stills import denies_still, is_still
+>>> (is_still(["O"], read_rule("B2/S0")), denies_still(["O"], read_rule("B2/S"), ("fails", 0, 0)))
+(True, True)
+""",
+    "rings": """
+>>> from longlife.rings import ring_fate, ring_next
+>>> from longlife.rules import read_rule
+>>> (ring_next([(0, 0)], read_rule("B2/S"), 1, 3), ring_fate([(0, 0)], read_rule("B3/S"), 1, 3, 9))
+([], (2, 1))
+""",
 }
 
 
@@ -49,6 +75,10 @@ class ExamplesTest(unittest.TestCase):
         for name, text in EXAMPLES.items():
             with self.subTest(name=name):
                 self.check_example(text, name)
+
+    def test_the_examples_of_the_readme(self):
+        text = README.read_text(encoding="ascii")
+        self.check_example(text.replace("```", ""), "README.md")
 
     def test_the_written_rule_of_the_document(self):
         from longlife.rules import Rule, write_rule

@@ -23,6 +23,31 @@ FUNCTIONS = {
         "holds": ["cells", "rule", "told"],
         "at_generation": ["cells", "rule", "told", "generation"],
     },
+    "longlife.pasts": {
+        "is_past": ["target", "rule", "past"],
+        "fails": ["target", "rule", "case", "row", "column"],
+        "denies": ["target", "rule", "denial"],
+        "search": ["target", "rule"],
+    },
+    "longlife.islands": {
+        "images": ["cells"],
+        "least_form": ["cells"],
+        "symmetries": ["cells"],
+        "islands": ["cells"],
+        "census": ["cells"],
+    },
+    "longlife.stills": {
+        "is_still": ["picture", "rule"],
+        "place_fails": ["wishes", "rule", "case", "row", "column"],
+        "denies_still": ["wishes", "rule", "denial"],
+        "search_still": ["wishes", "rule"],
+    },
+    "longlife.rings": {
+        "ring_next": ["cells", "rule", "height", "width"],
+        "ring_grown": ["cells", "rule", "height", "width", "generations"],
+        "ring_fate": ["cells", "rule", "height", "width", "bound"],
+        "unrolled": ["cells", "height", "width", "rows", "columns"],
+    },
 }
 CLASSES = {
     "longlife.errors": {

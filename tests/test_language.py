@@ -71,6 +71,7 @@ class LanguageTest(unittest.TestCase):
                 self.assertNotIsInstance(node, ast.GeneratorExp, path)
 
     def test_builtins_and_methods(self):
+        everywhere = METHODS | own_methods()
         for path in files():
             found = nodes(path)
             own = {node.name for node in found if isinstance(node, (ast.FunctionDef, ast.ClassDef))}
@@ -80,7 +81,7 @@ class LanguageTest(unittest.TestCase):
                     self.assertIn(node.id, BUILTINS, path)
                     self.assertIsInstance(node.ctx, ast.Load, path)
                 if isinstance(node, ast.Call) and isinstance(node.func, ast.Attribute):
-                    self.assertIn(node.func.attr, METHODS | own | own_methods(), path)
+                    self.assertIn(node.func.attr, everywhere | own, path)
 
     def test_names(self):
         for path in files():
