@@ -21,14 +21,37 @@ def plainly_denies(target, rule, denial):
     return plainly_holds(fails, {}, denial)
 
 
+def cells_of(target):
+    return list(itertools.product(range(len(target) + 2), range(len(target[0]) + 2)))
+
+
 def random_denial(chance, target, height):
     """A tree with any cells and places; on one way, a cell may be named several times."""
-    rows, columns = len(target), len(target[0])
     if height == 1 or chance.randrange(6) == 0:
-        return ("fails", chance.randrange(rows), chance.randrange(columns))
+        return ("fails", chance.randrange(len(target)), chance.randrange(len(target[0])))
     dead = random_denial(chance, target, height - 1)
     alive = random_denial(chance, target, height - 1)
-    return ("cell", chance.randrange(rows + 2), chance.randrange(columns + 2), dead, alive)
+    return ("cell", *chance.choice(cells_of(target)), dead, alive)
+
+
+def cells_named(denial):
+    """The cells that a denial names."""
+    if denial[0] == "fails":
+        return []
+    return [(denial[1], denial[2])] + cells_named(denial[3]) + cells_named(denial[4])
+
+
+def with_a_double(chance, denial, cells):
+    """A denial in which a tree is replaced by a tuple that has it, or a branch of it, on both sides."""
+    if denial[0] == "cell" and chance.randrange(4):
+        _, row, column, dead, alive = denial
+        if chance.randrange(2):
+            return ("cell", row, column, with_a_double(chance, dead, cells), alive)
+        return ("cell", row, column, dead, with_a_double(chance, alive, cells))
+    branch = denial
+    if denial[0] == "cell" and chance.randrange(3) == 0:
+        branch = denial[chance.choice((3, 4))]
+    return ("cell", *chance.choice(cells), branch, branch)
 
 
 def full_denial(cells, leaf):
@@ -66,6 +89,48 @@ class DeniesTest(unittest.TestCase):
         self.assertGreater(found.count(True), 200)
         self.assertGreater(found.count(False), 1000)
 
+    def test_found_denials_with_the_same_branches_on_both_sides(self):
+        chance = random.Random(191919)
+        found = []
+        for rule, target in ((read_rule("B/S0"), ["OO"]), (FULL, ["O.O"]), (read_rule("B8/S"), ["OO"]),
+                             (read_rule("B/S01"), ["OO", "O."]), (read_rule("B7/S"), ["OOO"] * 3),
+                             (read_rule("B12345678/S012345678"), ["...", ".O.", "..."])):
+            word, denial = search(target, rule)
+            self.assertEqual(word, "denial")
+            for _ in range(800):
+                cells = chance.sample(cells_of(target), 2) + [chance.choice(cells_named(denial))]
+                changed = denial
+                for _ in range(chance.randrange(1, 4)):
+                    changed = with_a_double(chance, changed, cells)
+                found.append(self.check(target, rule, changed))
+        self.assertGreater(found.count(True), 500)
+        self.assertGreater(found.count(False), 500)
+
+    def test_the_same_branch_holds_on_one_side_alone(self):
+        # The one cell fails if it is dead, and it does not if it is alive and nothing is said of its neighbours.
+        rule = read_rule("B/S0")
+        leaf = ("fails", 0, 0)
+        for between in ([], [(0, 0)], [(0, 0), (2, 2)], [(0, 0), (1, 1), (2, 2)], [(1, 1), (1, 1), (0, 0)]):
+            denial = full_denial(between, leaf)
+            self.assertIs(denies(["O"], rule, ("cell", 1, 1, denial, denial)), False)
+            self.assertIs(denies(["O"], rule, ("cell", 1, 0, denial, denial)), False)
+            self.assertIs(denies(["O"], rule, ("cell", 1, 1, leaf, denial)), False)
+            alone = ("cell", 1, 0, denial, denial)
+            self.assertIs(denies(["O"], rule, ("cell", 1, 1, alone, alone)), False)
+            self.assertIs(denies(["O"], rule, ("cell", 1, 0, ("cell", 1, 1, alone, alone), alone)), False)
+
+    def test_the_same_branch_names_the_cell_again(self):
+        # The first cell always fails and the second one never; which one counts is told by what was said before.
+        always, never = ("fails", 0, 0), ("fails", 0, 1)
+        for cell in cells_of(["O."]):
+            if_dead, if_alive = ("cell", *cell, always, never), ("cell", *cell, never, always)
+            twice = ("cell", *cell, if_dead, never)
+            for branch in (if_dead, if_alive, twice, ("cell", 1, 1, twice, twice), ("cell", 1, 2, if_dead, twice)):
+                self.assertIs(denies(["O."], NOTHING, ("cell", *cell, branch, branch)), False)
+            self.assertIs(denies(["O."], NOTHING, ("cell", *cell, if_dead, if_alive)), True)
+            self.assertIs(denies(["O."], NOTHING, ("cell", *cell, twice, if_alive)), True)
+            self.assertIs(denies(["O."], NOTHING, ("cell", *cell, if_alive, if_dead)), False)
+
     def test_found_denials_and_what_is_near_them(self):
         chance = random.Random(1919)
         found = []
@@ -95,15 +160,17 @@ class DeniesTest(unittest.TestCase):
         dead = ("fails", 0, 0)
         for row, column in itertools.product(range(3), repeat=2):
             self.assertIs(denies(["O"], FULL, ("cell", row, column, dead, dead)), False)
-        target = ["O."]
-        left, right = ("fails", 0, 0), ("fails", 0, 1)
-        # Only the three cells on the right tell the second one from the first.
-        denial = ("cell", 0, 3, left, ("cell", 1, 3, left, ("cell", 2, 3, left, right)))
-        self.check(target, FULL, denial)
-        full = right
-        for row, column in itertools.product(range(3), range(4)):
-            full = ("cell", row, column, left if column < 3 else right, full)
-        self.assertIs(denies(["O."], FULL, full), self.check(["O."], FULL, full))
+        # All of the past must be alive for the first and the last one, and then the middle one is, too.
+        left, right = ("fails", 0, 0), ("fails", 0, 2)
+        denial = ("fails", 0, 1)
+        for row, column in itertools.product(range(3), range(5)):
+            denial = ("cell", row, column, left if column < 3 else right, denial)
+        self.assertIs(self.check(["O.O"], FULL, denial), True)
+        self.assertIs(self.check(["OOO"], FULL, denial), False)
+        self.assertIs(self.check(["O.."], FULL, denial), False)
+        for row, column in itertools.product(range(3), range(5)):
+            other = ("cell", row, column, ("fails", 0, 1), denial)
+            self.assertIs(self.check(["O.O"], FULL, other), False)
 
     def test_a_denial_of_two_cells_by_hand(self):
         # A cell lives if it is alive without neighbours. Two living ones beside each other are a contradiction:
@@ -154,17 +221,16 @@ class DeniesTest(unittest.TestCase):
     def test_deep_trees(self):
         rule = read_rule("B/S0")
         leaf = ("cell", 1, 1, ("fails", 0, 0), ("fails", 0, 1))
-        wrong = ("fails", 0, 0)
-        good, bad = leaf, wrong
-        cells = [(1, 1), (0, 0), (0, 3), (2, 1), (1, 1), (0, 0)]
-        for step in range(57):
-            row, column = cells[step % 2]
+        good, bad = leaf, ("cell", 1, 0, ("fails", 0, 0), ("fails", 0, 1))
+        for step in range(58):
+            row, column = ((1, 1), (0, 0), (2, 3))[step % 3]
             good = ("cell", row, column, leaf, good)
             bad = ("cell", row, column, leaf, bad)
-        self.assertEqual(tuples_within(good), 59)
-        self.check(["OO"], rule, good)
+        self.assertEqual((tuples_within(good), tuples_within(bad)), (60, 60))
+        self.assertIs(self.check(["OO"], rule, good), True)
         self.check(["OO"], rule, bad)
-        self.assertIs(denies(["OO"], rule, good), True)
+        self.assertIs(self.check(["O."], rule, good), False)
+        self.assertIs(self.check(["O."], rule, bad), False)
 
     def test_deep_trees_with_many_cells(self):
         # In a past of 49 cells, a living cell without neighbours fails if one of the eight is alive.
